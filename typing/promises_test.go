@@ -10,6 +10,7 @@ import (
 	"domicile/api"
 	"domicile/parser"
 	"domicile/printer"
+	"domicile/rules"
 	"domicile/scenes"
 	"domicile/typing"
 	"domicile/units"
@@ -67,7 +68,7 @@ func TestModels(t *testing.T) {
 	houses(1, func(_ maker, h api.House) {
 		m, err := typing.Model(h)
 		faults := typing.Check(h)
-		if (err == api.OK) != (len(faults) == 0) || err == api.OK && !wellFormed(m) {
+		if (err == api.OK) != (len(faults) == 0) || err == api.OK && !(wellFormed(m) && rules.Valid(m)) {
 			t.Errorf("%+v has the model %+v, %v, and the faults %v", h, m, err, faults)
 		}
 	})
