@@ -278,6 +278,11 @@ func TestIndependence(t *testing.T) {
 	}
 	over := example()
 	over.Over = []api.Pair{{Winner: 0, Loser: 1}}
+	exchanged, _ := symmetry.Exchange(over, 0, 1)
+	clear(exchanged.Over)
+	if over.Over[0].Loser != 1 {
+		t.Error("the exchanged model shares memory with the model")
+	}
 	s := rules.Start(over)
 	symmetry.Canon(over, s).Values[0] = 7
 	if s.Values[0] != 0 {
