@@ -145,13 +145,31 @@ func TestErrors(t *testing.T) {
 	}
 }
 
+// P18.1, R1: a timer that starts itself again each second makes the path to a broken law long.
+func TestLongPaths(t *testing.T) {
+	again := []api.Start{{Timer: 0, Seconds: 1}}
+	for _, test := range []struct {
+		bound int
+		want  api.Errno
+	}{{1, api.OK}, {199, api.OK}, {200, api.ErrLimit}, {500, api.ErrLimit}} {
+		m := lamp(test.bound)
+		m.Rules[0].Starts = again
+		m.Rules[1] = api.Rule{Timer: 0, Starts: again}
+		got, err := analyse.Findings(m)
+		// The run sets the sensor, and waits for a second before each expiry, and at the end.
+		if err != test.want || err == api.OK && (len(got) != 1 || len(got[0].Run) != 2*test.bound+2 || !analyse.Holds(m, got[0])) || err != api.OK && len(got) > 0 {
+			t.Errorf("the bound %d: %+v, %v", test.bound, got, err)
+		}
+	}
+}
+
 // P18.1, R2: what steps show, and findings that are none about the model.
 func TestShows(t *testing.T) {
 	m := example()
 	m.Vars = append(m.Vars, api.Var{Size: 2, Sensor: true}, api.Var{Size: 2})
 	m.Rules = append([]api.Rule{when(2, 1, put(3, 1))}, m.Rules...)
 	m.Laws = []api.Law{{Cond: []api.Atom{is(3, 0)}, Bound: 2}, {Cond: []api.Atom{is(1, 1)}, Bound: 3}}
-	clash := api.Step{Clashes: []api.Clash{{First: 0, Second: 2, Var: 1}, {First: 0, Second: 1, Var: 3}}}
+	clash := api.Step{Clashes: []api.Clash{{First: 0, Second: 2, Var: 1}, {First: 0, Second: 1, Var: 3}, {First: 0, Second: 3, Var: 1}}}
 	endless := api.Step{Endless: true, Firings: []api.Firing{{Rule: 2}, {Rule: 1}, {Wave: 1, Rule: 2}}}
 	law := api.Step{State: api.State{Over: []int{3}}}
 	more := api.Step{State: api.State{Over: []int{4}}}
@@ -168,6 +186,10 @@ func TestShows(t *testing.T) {
 		{finding(api.FindClash, 0, 2, 1, -1), clash, false},
 		{finding(api.FindClash, 0, 1, 3, -1), clash, false},
 		{finding(api.FindClash, 1, 4, 1, -1), clash, false},
+		// The law 1 is the part 5, with the position 3 in the group, but it is no rule.
+		{finding(api.FindClash, 1, 5, 1, -1), clash, false},
+		{finding(api.FindEndless, 5, -1, -1, -1), api.Step{Endless: true, Firings: []api.Firing{{Rule: 3}}}, false},
+		{finding(api.FindEndless, 3, -1, -1, -1), api.Step{Endless: true, Firings: []api.Firing{{Rule: 2}}}, true},
 		{finding(api.FindClash, -1, 3, 1, -1), clash, false},
 		{finding(api.FindClash, 1, -1, 1, -1), clash, false},
 		{finding(api.FindEndless, 2, -1, -1, -1), endless, true},
