@@ -162,6 +162,9 @@ func TestBytes(t *testing.T) {
 	if got := driver.Encode(big); !bytes.Equal(got, refEncode(big)) {
 		t.Error("Encode of 400 instructions")
 	}
+	if got, err := driver.Decode(refEncode(big)); err != api.OK || !same(got, big) {
+		t.Errorf("Decode of 400 instructions = %d", err)
+	}
 }
 
 // P24.1, X2: bytes that no driver has.

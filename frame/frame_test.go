@@ -59,7 +59,7 @@ func TestWindows(t *testing.T) {
 	}{
 		{seqs(-1), true}, {seqs(0, 0), true}, {seqs(3, 0, 1, 2, 3), true}, {seqs(15, 0, 15), true}, {seqs(16, 0, 15), true}, {seqs(1000000, 0, 7), true},
 		{api.Seqs{}, false}, {api.Seqs{Top: -1}, false}, {api.Seqs{Top: -1, Seen: make([]bool, 15)}, false}, {api.Seqs{Top: -1, Seen: make([]bool, 17)}, false},
-		{seqs(-1, 0), false}, {seqs(-1, 15), false}, {seqs(-2), false}, {seqs(math.MinInt, 0), false}, {seqs(1000001, 0), false}, {seqs(math.MaxInt, 0), false},
+		{seqs(-1, 0), false}, {seqs(-1, 15), false}, {seqs(-2), false}, {seqs(-2, 0), false}, {seqs(math.MinInt, 0), false}, {seqs(1000001, 0), false}, {seqs(math.MaxInt, 0), false},
 		{seqs(0), false}, {seqs(9, 1), false}, {seqs(0, 0, 1), false}, {seqs(3, 0, 4), false}, {seqs(14, 0, 15), false},
 	} {
 		got, err := frame.Accept(test.w, 500)
