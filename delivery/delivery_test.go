@@ -93,6 +93,28 @@ func TestConfirm(t *testing.T) {
 	}
 }
 
+// P32.1, AF4: what a well-formed receiver has, at the limits.
+func TestReceivers(t *testing.T) {
+	full := delivery.Fresh(make([]int, 1200))
+	for i, test := range []struct {
+		change func(*api.Receiver)
+		o      api.Order
+		err    api.Errno
+	}{
+		{func(r *api.Receiver) {}, api.Order{Seq: 1000000, Fence: 1000000000, Var: 1199, Value: 15}, api.OK}, {func(r *api.Receiver) { r.Done = 1000001 }, api.Order{}, api.OK}, {func(r *api.Receiver) { r.Done = 1000002 }, api.Order{}, api.ErrArg}, {func(r *api.Receiver) { r.Done = -1 }, api.Order{}, api.ErrArg},
+		{func(r *api.Receiver) { r.Fence = 1000000000 }, api.Order{}, api.ErrFence}, {func(r *api.Receiver) { r.Fence = 1000000001 }, api.Order{}, api.ErrArg}, {func(r *api.Receiver) { r.Fence = -1 }, api.Order{}, api.ErrArg}, {func(r *api.Receiver) { r.Values = make([]int, 1201) }, api.Order{}, api.ErrArg},
+		{func(r *api.Receiver) { r.Values = []int{16} }, api.Order{}, api.ErrArg}, {func(r *api.Receiver) { r.Values = nil }, api.Order{}, api.ErrArg}, {func(r *api.Receiver) { r.Seqs.Seen = nil }, api.Order{}, api.ErrArg}, {func(r *api.Receiver) { *r = api.Receiver{} }, api.Order{}, api.ErrArg},
+		{func(r *api.Receiver) {}, api.Order{Seq: 1000001}, api.ErrArg}, {func(r *api.Receiver) {}, api.Order{Seq: -1}, api.ErrArg}, {func(r *api.Receiver) {}, api.Order{Fence: 1000000001}, api.ErrArg}, {func(r *api.Receiver) {}, api.Order{Var: 1200}, api.ErrArg}, {func(r *api.Receiver) {}, api.Order{Value: 16}, api.ErrArg},
+	} {
+		r := full
+		test.change(&r)
+		next, confirms, err := delivery.Receive(r, test.o)
+		if want, _, _ := refReceive(r, test.o); err != test.err || confirms != (err == api.OK) || !same(next, want) {
+			t.Errorf("%d: Receive = %v, %d, want %d", i, confirms, err, test.err)
+		}
+	}
+}
+
 // P32.1, AF3: the values of a fresh receiver.
 func TestFresh(t *testing.T) {
 	for i, test := range []struct {
