@@ -1,4 +1,4 @@
-// Package checks contains tests that concern all packages: the signatures of the layers, and the rules of shared/LANGUAGE.md as far as the text of the program shows them.
+// Package checks contains tests that concern all packages: the signatures of the layers, the rules of shared/LANGUAGE.md as far as the text of the program shows them, and theorems about several layers.
 package checks
 
 import (

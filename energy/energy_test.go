@@ -141,6 +141,13 @@ func TestLimit(t *testing.T) {
 			t.Errorf("Best of %v = %v, %d", l, got, err)
 		}
 	}
+	late := slices.Repeat([]api.Load{{Power: 1, Length: 1, First: 20, Last: 23}}, 6)
+	if got, err := energy.Best(g, api.Battery{}, late); err != api.OK || !slices.Equal(got.Starts, []int{20, 20, 20, 20, 20, 20}) {
+		t.Errorf("Best with 4096 choices = %v, %d", got, err)
+	}
+	if _, err := energy.Best(g, api.Battery{}, append(late, late[0])); err != api.ErrLimit {
+		t.Errorf("Best with 16384 choices = %d", err)
+	}
 	g.Fuse, g.Base[0] = 0, 100
 	if _, err := energy.Best(g, b, loads(24, 24, 9)); err != api.ErrLimit {
 		t.Errorf("Best = %d", err)

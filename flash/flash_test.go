@@ -93,6 +93,11 @@ func TestRoom(t *testing.T) {
 	if h, err := flash.Append(g, []byte{1}); err != api.ErrFull || !same(h, api.Flash{}) {
 		t.Errorf("Append = %v, %d", h, err)
 	}
+	for _, size := range []int{16, 4096} {
+		if g, err := flash.Append(flash.Erased(size), []byte{3}); err != api.OK || !same(flash.Records(g), [][]byte{{3}}) || len(flash.Steps(flash.Erased(size), g)) != 7 {
+			t.Errorf("Append to %d bytes = %d", size, err)
+		}
+	}
 	if _, err := flash.Compact(flash.Erased(16), [][]byte{make([]byte, 10)}); err != api.OK {
 		t.Errorf("Compact of 10 bytes = %d", err)
 	}
