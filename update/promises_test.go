@@ -10,13 +10,14 @@ import (
 	"domicile/update"
 )
 
-// P31.2: in any order, and any number of times, the pieces are the data.
+// P31.2: in any order, and any number of times, the pieces are the data, whatever was in their places.
 func TestTransfer(t *testing.T) {
 	m := maker{rand.New(rand.NewSource(312))}
 	for range 300 {
 		size := 1 + m.Intn(32)
 		data := m.data(size)
 		pieces, s := begun(t, size, data)
+		s = m.occupied(s)
 		order := append(m.Perm(len(pieces)), m.Intn(len(pieces)), m.Intn(len(pieces)))
 		m.Shuffle(len(order), func(i, j int) { order[i], order[j] = order[j], order[i] })
 		for _, i := range order {
@@ -142,6 +143,9 @@ func TestInterruptions(t *testing.T) {
 	for range 500 {
 		size := 1 + m.Intn(4)
 		pieces, s := begun(t, size, m.data(size))
+		if m.chance(2) {
+			s = m.occupied(s)
+		}
 		for range 2 * len(pieces) {
 			p := pieces[m.Intn(len(pieces))]
 			if m.chance(3) {
@@ -149,8 +153,11 @@ func TestInterruptions(t *testing.T) {
 			}
 			next, err := update.Add(s, p)
 			for i := range s.Pieces {
-				kept := slices.Equal(s.Pieces[i], next.Pieces[i])
-				if !kept && (err != api.OK || i != p.Index || len(s.Pieces[i]) > 0) {
+				want := s.Pieces[i]
+				if err == api.OK && i == p.Index {
+					want = p.Data
+				}
+				if !slices.Equal(next.Pieces[i], want) {
 					t.Fatalf("Add(%v, %v) = %v, %d", s, p, next, err)
 				}
 			}

@@ -82,9 +82,7 @@ func refAdd(s api.Slot, p api.Piece) (api.Slot, api.Errno) {
 		return s, api.ErrProof
 	}
 	pieces := slices.Clone(s.Pieces)
-	if len(pieces[p.Index]) == 0 {
-		pieces[p.Index] = p.Data
-	}
+	pieces[p.Index] = p.Data
 	return api.Slot{Manifest: s.Manifest, Pieces: pieces}, api.OK
 }
 
@@ -114,6 +112,25 @@ func (m maker) data(size int) []int {
 }
 
 func (m maker) key() int { return m.Intn(maxTag + 1) }
+
+// occupied returns a well-formed slot that often has other data than that of its pieces.
+func (m maker) occupied(s api.Slot) api.Slot {
+	s.Pieces = slices.Clone(s.Pieces)
+	for i := range s.Pieces {
+		if !m.chance(3) {
+			continue
+		}
+		n := s.Manifest.Size
+		if i == s.Manifest.Count-1 {
+			n = 1 + m.Intn(n)
+		}
+		s.Pieces[i] = nil
+		for range n {
+			s.Pieces[i] = append(s.Pieces[i], m.number())
+		}
+	}
+	return s
+}
 
 // twin returns other data with the same digest, if it finds any.
 func twin(data []int) []int {

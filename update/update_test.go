@@ -197,6 +197,43 @@ func TestAddErrors(t *testing.T) {
 	}
 }
 
+// P31.1, AE3: a piece comes in the place of other data; what is refused leaves it there.
+func TestAddInPlaceOfOtherData(t *testing.T) {
+	pieces, s := begun(t, 3, []int{1, 2, 3, 4, 5, 6, 7, 8})
+	s.Pieces = [][]int{{9, 9, 9}, {1000000000, 0, -1000000000}, {7, 8, 9}}
+	place := func(i int, data []int) api.Slot {
+		l := slices.Clone(s.Pieces)
+		l[i] = data
+		return api.Slot{Manifest: s.Manifest, Pieces: l}
+	}
+	forged := pieces[1]
+	forged.Data = []int{4, 5, 7}
+	for i, test := range []struct {
+		s    api.Slot
+		p    api.Piece
+		want api.Slot
+		err  api.Errno
+	}{
+		{s, pieces[0], place(0, []int{1, 2, 3}), api.OK}, {s, pieces[1], place(1, []int{4, 5, 6}), api.OK}, {s, pieces[2], place(2, []int{7, 8}), api.OK},
+		{place(2, []int{7}), pieces[2], place(2, []int{7, 8}), api.OK}, {place(1, []int{4, 5, 6}), pieces[1], place(1, []int{4, 5, 6}), api.OK}, {place(1, nil), pieces[1], place(1, []int{4, 5, 6}), api.OK}, {place(0, nil), pieces[2], api.Slot{Manifest: s.Manifest, Pieces: [][]int{nil, s.Pieces[1], {7, 8}}}, api.OK},
+		{s, forged, s, api.ErrProof}, {s, api.Piece{Index: 1, Data: []int{4, 5}, Path: pieces[1].Path}, s, api.ErrFormat}, {place(1, []int{1}), pieces[0], place(1, []int{1}), api.ErrArg},
+	} {
+		before := fmt.Sprint(test.s, test.p)
+		got, err := update.Add(test.s, test.p)
+		if err != test.err || !same(got, test.want) {
+			t.Errorf("%d: Add(%v, %v) = %v, %d, want %v, %d", i, test.s, test.p, got, err, test.want, test.err)
+		}
+		for _, data := range got.Pieces {
+			for k := range data {
+				data[k] = 77
+			}
+		}
+		if after := fmt.Sprint(test.s, test.p); after != before {
+			t.Errorf("%d: the arguments are %s, before %s", i, after, before)
+		}
+	}
+}
+
 // P31.1: random data, against the definitions.
 func TestRandom(t *testing.T) {
 	m := maker{rand.New(rand.NewSource(1))}
@@ -211,6 +248,7 @@ func TestRandom(t *testing.T) {
 			t.Fatalf("Split(%d, %d, %d, %v) = %v, %v, %d", key, version, size, data, got, pieces, err)
 		}
 		s, _ := update.Begin(key, 0, got)
+		s = m.occupied(s)
 		for i := range pieces {
 			if !same(pieces[i], api.Piece{Index: i, Data: lists[i], Path: crypto.Path(lists, i)}) {
 				t.Fatalf("the piece %d is %v", i, pieces[i])
