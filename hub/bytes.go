@@ -4,13 +4,9 @@ import (
 	"bytes"
 
 	"domicile/api"
-	"domicile/merge"
 )
 
-const (
-	maxNums  = 32 // numbers of an entry
-	maxShift = 35 // of the last digit of a number that an entry can have
-)
+const maxShift = 35 // of the last digit of a number that an entry can have
 
 // source yields the bytes of an entry.
 type source interface {
@@ -44,7 +40,7 @@ func bytesOf(e api.Entry) []byte {
 	return append(b, e.Text...)
 }
 
-// entryOf returns the entry with some bytes, if there is one.
+// entryOf returns the entry with some bytes, if there is one. It need not be one that a journal can have: a hub that got the greatest Seq by merging makes entries with greater ones.
 func entryOf(b []byte) (api.Entry, bool) {
 	var s source = &buffer{b}
 	e := api.Entry{}
@@ -52,7 +48,8 @@ func entryOf(b []byte) (api.Entry, bool) {
 	for _, field := range []*int{&e.Hub, &e.Seq, &e.Time, &e.Kind, &count} {
 		*field = numberIn(s)
 	}
-	if !within(count, 0, maxNums) {
+	// Each number has at least one byte.
+	if !within(count, 0, len(b)) {
 		return api.Entry{}, false
 	}
 	for range count {
@@ -63,7 +60,7 @@ func entryOf(b []byte) (api.Entry, bool) {
 		e.Text = string(r.rest())
 	}
 	// An entry has only these bytes, so that comparing them finds all that is not as it has to be.
-	if length != len(e.Text) || !merge.Valid([]api.Entry{e}) || !bytes.Equal(bytesOf(e), b) {
+	if length != len(e.Text) || !bytes.Equal(bytesOf(e), b) {
 		return api.Entry{}, false
 	}
 	return e, true

@@ -408,6 +408,14 @@ func TestRandom(t *testing.T) {
 				refs[i].do(load(lampHouse + lampRules))
 			}
 		}
+		if m.chance(8) {
+			for i := range hubs {
+				l := []api.Entry{{Hub: i, Seq: 1000000000 - m.Intn(6), Kind: api.EntTake, Nums: []int{0}}}
+				if got, err := hubs[i].Merge(l), refs[i].merge(l); got != err {
+					t.Fatalf("Merge(%v) = %d, want %d", l, got, err)
+				}
+			}
+		}
 		for range 80 {
 			i, k := m.Intn(3), m.Intn(3)
 			if m.chance(10) {
@@ -430,7 +438,7 @@ func TestRandom(t *testing.T) {
 		}
 	}
 	for _, name := range []string{
-		"1 0", "1 28", "2 0", "2 1", "2 28", "2 29", "3 0", "3 15", "3 18", "3 28", "5 0", "6 0", "7 0", "8 0", "9 0", "10 0", "11 0", "12 0", "13 0", "14 0", "Merge0", "Merge25",
+		"1 0", "1 28", "2 0", "2 1", "2 28", "2 29", "3 0", "3 15", "3 18", "3 28", "5 0", "6 0", "7 0", "8 0", "9 0", "10 0", "11 0", "12 0", "13 0", "14 0", "Merge0", "Merge1", "Merge25",
 	} {
 		if count[name] < 10 {
 			t.Errorf("the test covers too little: %s in %v", name, count)
